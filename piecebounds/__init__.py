@@ -1,0 +1,1 @@
+"""Piecebounds: rows cut to so many pieces."""

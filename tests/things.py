@@ -1,0 +1,127 @@
+"""What several tests need: things of all kinds, rows, and all cuts gone through."""
+
+from itertools import combinations, product
+
+DEEP = 20000
+
+
+class Stranger:
+    """An object that fails at whatever is asked of it but its class."""
+
+    def fail(self, *others):
+        raise AssertionError("a thing of another class was asked more than its class")
+
+    __eq__ = __ne__ = __lt__ = __le__ = __gt__ = __ge__ = fail
+    __hash__ = __len__ = __bool__ = __iter__ = __getitem__ = __contains__ = fail
+    __int__ = __index__ = __add__ = __radd__ = __sub__ = __repr__ = __str__ = fail
+
+
+def nested(wrap):
+    thing = wrap(1)
+    for turn in range(DEEP):
+        thing = wrap(thing)
+    return thing
+
+
+def in_itself():
+    thing = []
+    thing.append(thing)
+    return thing
+
+
+def deep_things():
+    """Pairs of a label and a thing; the things themselves are too deep to be shown."""
+    return [
+        ("deep lists", nested(lambda thing: [thing])),
+        ("deep tuples", nested(lambda thing: (thing,))),
+        ("deep dicts", nested(lambda thing: {1: thing})),
+        ("deep lists and tuples", nested(lambda thing: [(thing,)])),
+        ("deep tuples and lists", nested(lambda thing: ([thing],))),
+        ("list in itself", in_itself()),
+    ]
+
+
+def no_numbers():
+    """Pairs of a label and a thing that is no whole number."""
+    return deep_things() + [
+        ("True", True), ("False", False), ("None", None),
+        ("empty text", ""), ("text", "1"), ("bytes", b"1"),
+        ("empty list", []), ("list", [1]), ("empty tuple", ()), ("tuple", (1,)),
+        ("empty dict", {}), ("dict", {1: 1}), ("set", {1}), ("range", range(1, 2)),
+        ("object", object()), ("stranger", Stranger()), ("class", int), ("function", len),
+    ]
+
+
+def no_lists():
+    """Pairs of a label and a thing that is no list."""
+    things = no_numbers() + [
+        ("nought", 0), ("number", 1), ("tuple of numbers", (1, 2)), ("dict of numbers", {1: 2, 2: 3}),
+        ("text of figures", "12"), ("bytes of numbers", b"\x01\x02"),
+    ]
+    return [(label, thing) for label, thing in things if not isinstance(thing, list)]
+
+
+def small_rows(numbers, longest):
+    """All rows of these numbers, from one number to the longest."""
+    return [list(row) for length in range(1, longest + 1) for row in product(numbers, repeat=length)]
+
+
+def some_numbers(seed, many, limit):
+    """So many numbers from 0 to the limit that look like chance and are always the same."""
+    numbers = []
+    for turn in range(many):
+        seed = (seed * 6364136223846793005 + 1442695040888963407) % 2 ** 64
+        numbers.append((seed >> 8) % (limit + 1))
+    return numbers
+
+
+def cuts_into(length, many):
+    """All cuts of a row of that length into so many pieces, as lists are ordered."""
+    return [list(places) for places in combinations(range(1, length), many - 1)]
+
+
+def all_cuts_of(length):
+    return [cut for many in range(1, length + 1) for cut in cuts_into(length, many)]
+
+
+def slow_sums(row, cut):
+    """The sums of the pieces, number by number and without the program."""
+    sums = [0]
+    for place, number in enumerate(row):
+        if place in cut:
+            sums.append(0)
+        sums[-1] += number
+    return sums
+
+
+def lists_in(thing):
+    """All lists in what was told, itself too."""
+    found = [thing] if isinstance(thing, list) else []
+    if isinstance(thing, (list, tuple)):
+        for part in thing:
+            found += lists_in(part)
+    return found
+
+
+def check_own(case, function, arguments):
+    """Point 1: nothing handed in is changed or kept, and what is told is the asker's own.
+
+    `arguments` is called to make the arguments anew.
+    """
+    handed = arguments()
+    told = function(*handed)
+    case.assertEqual(handed, arguments())
+
+    for thing in lists_in(handed):
+        thing[:] = [99, 98, 97]
+    expected = function(*arguments())
+    case.assertEqual(told, expected)
+
+    handed = arguments()
+    found = lists_in(function(*handed))
+    case.assertEqual(len({id(one) for one in found}), len(found))
+    for one in found:
+        one[:] = ["spoiled"]
+    case.assertEqual(handed, arguments())
+    case.assertEqual(function(*handed), expected)
+    case.assertEqual(function(*arguments()), expected)
