@@ -2,10 +2,10 @@
 
 import unittest
 
-from piecebounds.errors import CutError, NoCommand, NoMany, NoNumber, NoPlace, NoText
 from piecebounds.greatest import fewest_pieces, least_greatest, long_cut
 from piecebounds.rows import is_cut
-from tests.things import all_cuts_of, check_own, cuts_into, no_numbers, slow_sums, small_rows, some_numbers
+from tests.things import (all_cuts_of, check_no_many, check_own, cuts_into, first_cut_by_table, rows_of_120,
+                          slow_sums, small_rows, some_numbers, table_of)
 
 
 def lengths(row, cut):
@@ -24,32 +24,6 @@ def slow_fewest(row, bound):
 
 def slow_least_greatest(row, many):
     return min((max(slow_sums(row, cut)), cut) for cut in cuts_into(len(row), many))
-
-
-def table_of_greatest(row):
-    """best[many][begin]: the least greatest sum of the row from there on in so many pieces, by a table."""
-    length = len(row)
-    ahead = [0]
-    for number in row:
-        ahead.append(ahead[-1] + number)
-    best = [None, [ahead[length] - ahead[begin] for begin in range(length)]]
-    for many in range(2, length + 1):
-        best.append([
-            min(max(ahead[place] - ahead[begin], best[many - 1][place])
-                for place in range(begin + 1, length - many + 2))
-            for begin in range(length - many + 1)
-        ])
-    return best
-
-
-def first_cut_by_table(row, many, best):
-    bound = best[many][0]
-    cut = []
-    begin = 0
-    for left in range(many - 1, 0, -1):
-        begin = next(place for place in range(begin + 1, len(row) - left + 1) if best[left][place] <= bound)
-        cut.append(begin)
-    return cut
 
 
 class WithinABound(unittest.TestCase):
@@ -155,16 +129,15 @@ class LeastGreatest(unittest.TestCase):
         self.assertIs(type(told[1]), list)
 
     def test_rows_of_120_numbers(self):
-        noughts = [0 if place % 3 else number for place, number in enumerate(some_numbers(3, 120, 10 ** 12))]
-        for row in (some_numbers(1, 120, 10 ** 12), noughts, [10 ** 12] * 120):
-            best = table_of_greatest(row)
+        for row in rows_of_120():
+            table = table_of(row, max, min)
             for many in range(1, 121):
                 bound, cut = least_greatest(row, many)
                 with self.subTest(many=many):
-                    self.assertEqual(bound, best[many][0])
+                    self.assertEqual(bound, table[many][0])
                     self.assertTrue(is_cut(row, cut))
                     self.assertEqual(max(slow_sums(row, cut)), bound)
-                    self.assertEqual(cut, first_cut_by_table(row, many, best))
+                    self.assertEqual(cut, first_cut_by_table(row, many, table, max))
 
     def test_what_is_told_is_the_askers_own(self):
         for many in (1, 2, 3, 4):
@@ -173,31 +146,13 @@ class LeastGreatest(unittest.TestCase):
 
 
 class SoManyPieces(unittest.TestCase):
-    def check_refused(self, row, many, label):
-        before = list(row)
-        with self.subTest(many=label, length=len(row)):
-            with self.assertRaises(NoMany) as caught:
-                least_greatest(row, many)
-            self.assertIsInstance(caught.exception, CutError)
-            self.assertIsInstance(caught.exception, ValueError)
-            for other in (NoPlace, NoNumber, NoText, NoCommand):
-                self.assertNotIsInstance(caught.exception, other)
-            self.assertEqual(row, before)
-
-    def test_numbers_beyond_the_edges(self):
-        for row in ([5], [0, 0], [3, 1, 2], [1] * 120):
-            for many in (0, -1, -len(row), len(row) + 1, len(row) + 2, 10 ** 30, -10 ** 30):
-                self.check_refused(row, many, many)
+    def test_what_is_no_number_of_pieces(self):
+        check_no_many(self, least_greatest, [])
 
     def test_numbers_at_the_edges(self):
         for row in ([5], [0, 0], [3, 1, 2], [1] * 120):
             self.assertEqual(least_greatest(row, 1), (sum(row), []))
             self.assertEqual(least_greatest(row, len(row)), (max(row), list(range(1, len(row)))))
-
-    def test_what_is_no_number(self):
-        for row in ([5], [3, 1, 2]):
-            for label, many in no_numbers():
-                self.check_refused(row, many, label)
 
 
 if __name__ == "__main__":

@@ -2,6 +2,10 @@
 
 from itertools import combinations, product
 
+from piecebounds.errors import CutError, NoCommand, NoMany, NoNumber, NoPlace, NoText
+
+KINDS = (NoMany, NoPlace, NoNumber, NoText, NoCommand)
+
 DEEP = 20000
 
 
@@ -92,6 +96,73 @@ def slow_sums(row, cut):
             sums.append(0)
         sums[-1] += number
     return sums
+
+
+def slow_ahead(row):
+    """The sums of the first numbers of the row: of none, of one and so on to all."""
+    return [sum(row[:place]) for place in range(len(row) + 1)]
+
+
+def table_of(row, worst, best):
+    """table[many][begin]: the best worst sum of the row from there on in so many pieces.
+
+    With max and min this is the least greatest sum, with min and max the greatest least one.
+    """
+    length = len(row)
+    ahead = slow_ahead(row)
+    table = [None, [ahead[length] - ahead[begin] for begin in range(length)]]
+    for many in range(2, length + 1):
+        table.append([
+            best(worst(ahead[place] - ahead[begin], table[many - 1][place])
+                 for place in range(begin + 1, length - many + 2))
+            for begin in range(length - many + 1)
+        ])
+    return table
+
+
+def first_cut_by_table(row, many, table, worst):
+    """The first cut into so many pieces that has the best worst sum."""
+    bound = table[many][0]
+    ahead = slow_ahead(row)
+    cut = []
+    begin = 0
+    for left in range(many - 1, 0, -1):
+        begin = next(place for place in range(begin + 1, len(row) - left + 1)
+                     if worst(ahead[place] - ahead[begin], table[left][place], bound) == bound)
+        cut.append(begin)
+    return cut
+
+
+def rows_of_120():
+    """Rows as long and numbers as great as the document lets them be, one with many noughts."""
+    noughts = [0 if place % 3 else number for place, number in enumerate(some_numbers(3, 120, 10 ** 12))]
+    return [some_numbers(1, 120, 10 ** 12), noughts, [10 ** 12] * 120]
+
+
+def check_refused(case, kind, function, arguments):
+    """The refusal is of this kind and of no other; the row, handed in first, stays as it is."""
+    before = list(arguments[0])
+    with case.assertRaises(kind) as caught:
+        function(*arguments)
+    case.assertIsInstance(caught.exception, CutError)
+    case.assertIsInstance(caught.exception, ValueError)
+    for other in KINDS:
+        case.assertEqual(isinstance(caught.exception, other), other is kind)
+    case.assertEqual(arguments[0], before)
+
+
+def no_manys(row):
+    """Pairs of a label and a thing that is no number of pieces of the row."""
+    numbers = (0, -1, -len(row), len(row) + 1, len(row) + 2, 10 ** 30, -10 ** 30)
+    return [(str(many), many) for many in numbers] + no_numbers()
+
+
+def check_no_many(case, function, more):
+    """Point 7; `more` are the arguments that come behind the number of pieces."""
+    for row in ([5], [0, 0], [3, 1, 2], [1] * 120):
+        for label, many in no_manys(row):
+            with case.subTest(function=function.__name__, many=label, length=len(row)):
+                check_refused(case, NoMany, function, [row, many] + more)
 
 
 def lists_in(thing):
