@@ -1,7 +1,7 @@
 """Cuts into so many pieces: how many there are, and the so-manieth of them."""
 
 from piecebounds.errors import NoPlace
-from piecebounds.rows import check_many, is_whole
+from piecebounds.rows import check_many, is_within
 
 
 def all_cuts(row, many):
@@ -25,7 +25,7 @@ def cut_at(row, many, low, high, place):
     check_many(row, many)
     ranges = end_ranges(row, low, high)
     ways = count_ways(ranges, many)
-    if not is_whole(place) or place < 0 or place >= ways[many][0]:
+    if not is_within(place, 0, ways[many][0] - 1):
         # The message does not show the thing: it may be nested too deep to be shown.
         raise NoPlace("the place must be a whole number from 0 on, below the number of such cuts")
     cut = []

@@ -19,17 +19,27 @@ def is_row(thing):
     return True
 
 
-def is_cut(row, thing):
-    """Whether a thing, which may be anything, is a cut of the row."""
+def is_within(thing, low, high):
+    """Whether a thing, which may be anything, is a whole number from low to high."""
+    return is_whole(thing) and low <= thing <= high
+
+
+def are_places(row, thing, first):
+    """Whether a thing, which may be anything, is a rising list of places of the row, from the first on."""
     if not isinstance(thing, list):
         return False
-    # The first piece begins at 0 without being told, so 0 is no place of a cut.
-    before = 0
+    least = first
     for place in thing:
-        if not is_whole(place) or place <= before or place >= len(row):
+        if not is_within(place, least, len(row) - 1):
             return False
-        before = place
+        least = place + 1
     return True
+
+
+def is_cut(row, thing):
+    """Whether a thing, which may be anything, is a cut of the row."""
+    # The first piece begins at 0 without being told, so 0 is no place of a cut.
+    return are_places(row, thing, 1)
 
 
 def pieces(row, cut):
@@ -45,5 +55,5 @@ def sums_of(row, cut):
 def check_many(row, many):
     """Refuse with NoMany what is no number of pieces of the row."""
     # The message does not show the thing: it may be nested too deep to be shown.
-    if not is_whole(many) or many < 1 or many > len(row):
+    if not is_within(many, 1, len(row)):
         raise NoMany("so many pieces must be a whole number from 1 to the length of the row")

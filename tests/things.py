@@ -133,6 +133,51 @@ def first_cut_by_table(row, many, table, worst):
     return cut
 
 
+def slow_evenness(row, cut):
+    return sum(total ** 2 for total in slow_sums(row, cut))
+
+
+def slow_most_even(row, many):
+    return min((slow_evenness(row, cut), cut) for cut in cuts_into(len(row), many))
+
+
+def even_ends(row):
+    """table[many][end]: the least evenness of the row up to that end in so many pieces, None where there is none."""
+    ahead = slow_ahead(row)
+    table = [[0] + [None] * len(row)]
+    for many in range(1, len(row) + 1):
+        fewer = table[-1]
+        table.append([min(((ahead[end] - ahead[begin]) ** 2 + fewer[begin] for begin in range(end)
+                           if fewer[begin] is not None), default=None) for end in range(len(row) + 1)])
+    return table
+
+
+def evens_by_table(row):
+    return [ends[len(row)] for ends in even_ends(row)[1:]]
+
+
+def first_even_by_table(row, many, turned):
+    """The first cut with the least evenness; `turned` is what even_ends tells of the row turned round."""
+    # What the turned row has up to an end is what the row has from a place on.
+    length = len(row)
+    cut = []
+    begin = 0
+    for left in range(many - 1, 0, -1):
+        least = turned[left + 1][length - begin]
+        begin = next(place for place in range(begin + 1, length - left + 1)
+                     if sum(row[begin:place]) ** 2 + turned[left][length - place] == least)
+        cut.append(begin)
+    return cut
+
+
+def rows_for_squares():
+    """Short rows of all kinds: with noughts, with like numbers, with one great among small."""
+    great = [[1, 1, 50, 1, 1, 1], [50, 1, 2, 1, 3], [1, 0, 1, 2, 50], [0, 0, 10 ** 12, 0, 1, 0, 1]]
+    like = [[value] * length for value in (0, 1, 10 ** 12) for length in (1, 2, 5, 8)]
+    more = [some_numbers(seed, 8, limit) for seed in range(6) for limit in (2, 9, 10 ** 12)]
+    return small_rows((0, 1, 2), 5) + small_rows((0, 3, 4, 9), 4) + great + like + more
+
+
 def rows_of_120():
     """Rows as long and numbers as great as the document lets them be, one with many noughts."""
     noughts = [0 if place % 3 else number for place, number in enumerate(some_numbers(3, 120, 10 ** 12))]
