@@ -94,6 +94,17 @@ class Language(unittest.TestCase):
                 self.assertFalse({one for one in bound & set(dir(builtins)) if not one.startswith("__")})
                 self.assertFalse([one for one in bound if one.startswith("_") and not one.endswith("__")])
 
+    def test_no_name_is_both_a_method_and_an_attribute(self):
+        methods = set()
+        attributes = set()
+        for name, text in sources():
+            for node in ast.walk(ast.parse(text)):
+                if isinstance(node, ast.ClassDef):
+                    methods.update(one.name for one in node.body if isinstance(one, ast.FunctionDef))
+                elif isinstance(node, ast.Attribute) and isinstance(node.ctx, ast.Store):
+                    attributes.add(node.attr)
+        self.assertFalse(methods & attributes)
+
 
 if __name__ == "__main__":
     unittest.main()

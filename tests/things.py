@@ -184,15 +184,20 @@ def rows_of_120():
     return [some_numbers(1, 120, 10 ** 12), noughts, [10 ** 12] * 120]
 
 
-def check_refused(case, kind, function, arguments):
-    """The refusal is of this kind and of no other; the row, handed in first, stays as it is."""
-    before = list(arguments[0])
+def check_kind(case, kind, function, arguments):
+    """The refusal is of this kind and of no other."""
     with case.assertRaises(kind) as caught:
         function(*arguments)
     case.assertIsInstance(caught.exception, CutError)
     case.assertIsInstance(caught.exception, ValueError)
     for other in KINDS:
         case.assertEqual(isinstance(caught.exception, other), other is kind)
+
+
+def check_refused(case, kind, function, arguments):
+    """The refusal is of this kind and of no other; the row, handed in first, stays as it is."""
+    before = list(arguments[0])
+    check_kind(case, kind, function, arguments)
     case.assertEqual(arguments[0], before)
 
 
